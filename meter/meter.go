@@ -1,0 +1,77 @@
+// Package meter: requests at their rates, items spaced out: see DOC.md.
+package meter
+
+import (
+	"sync"
+
+	"meter/api"
+	"meter/plan"
+	"meter/shard"
+)
+
+// Meter lets requests through.
+type Meter struct {
+	// clock guards now. A request holds it for reading until it is decided, so that shards work side by side but time stands still for each.
+	clock  sync.RWMutex
+	now    uint64
+	shards []*shard.Shard
+}
+
+// New makes a meter (P3).
+func New(c api.Config) (*Meter, api.Errno) {
+	p, e := plan.Of(c)
+	if e != api.OK {
+		return nil, e
+	}
+	m := &Meter{shards: make([]*shard.Shard, c.Shards)}
+	for i := range m.shards {
+		m.shards[i] = shard.New(p, c.Slots)
+	}
+	return m, api.OK
+}
+
+// Now tells the time (P4).
+func (m *Meter) Now() uint64 {
+	m.clock.RLock()
+	defer m.clock.RUnlock()
+	return m.now
+}
+
+// Advance lets time go on (P4).
+func (m *Meter) Advance(n int) api.Errno {
+	if n < 0 {
+		return api.ErrArg
+	}
+	m.clock.Lock()
+	defer m.clock.Unlock()
+	// Both are at most MaxTime, so the sum does not wrap.
+	m.now = min(m.now+uint64(n), api.MaxTime)
+	return api.OK
+}
+
+// Allow asks whether a request is let through (P5).
+func (m *Meter) Allow(k api.Key, cost int) (api.Reply, api.Errno) {
+	if cost < 1 || cost > api.MaxCost {
+		return api.Reply{}, api.ErrArg
+	}
+	m.clock.RLock()
+	defer m.clock.RUnlock()
+	return m.shardOf(k.Tenant).Allow(k, cost, m.now), api.OK
+}
+
+// Submit takes an item (P8).
+func (m *Meter) Submit(tenant uint16, item uint32) (api.Status, uint64) { return 0, 0 }
+
+// Poll tells items that are due (P9).
+func (m *Meter) Poll(most int) []api.Item { return nil }
+
+// Do does what a command says (P10).
+func (m *Meter) Do(command string) string { return "" }
+
+// Many does what several commands say (P12).
+func (m *Meter) Many(commands []string) ([]string, api.Errno) { return nil, api.OK }
+
+// shardOf tells the shard that a tenant's keys are in (P6).
+func (m *Meter) shardOf(tenant uint16) *shard.Shard {
+	return m.shards[int(tenant)%len(m.shards)]
+}
