@@ -6,15 +6,17 @@ import (
 
 	"meter/api"
 	"meter/plan"
+	"meter/queue"
 	"meter/shard"
 )
 
 // Meter lets requests through.
 type Meter struct {
-	// clock guards now. A request holds it for reading until it is decided, so that shards work side by side but time stands still for each.
+	// clock guards now. A request or an item holds it for reading until it is decided, so that shards work side by side but time stands still for each.
 	clock  sync.RWMutex
 	now    uint64
 	shards []*shard.Shard
+	queue  *queue.Queue
 }
 
 // New makes a meter (P3).
@@ -23,7 +25,10 @@ func New(c api.Config) (*Meter, api.Errno) {
 	if e != api.OK {
 		return nil, e
 	}
-	m := &Meter{shards: make([]*shard.Shard, c.Shards)}
+	m := &Meter{
+		shards: make([]*shard.Shard, c.Shards),
+		queue:  queue.New(c.Every, c.Delay, c.Queue),
+	}
 	for i := range m.shards {
 		m.shards[i] = shard.New(p, c.Slots)
 	}
@@ -60,10 +65,18 @@ func (m *Meter) Allow(k api.Key, cost int) (api.Reply, api.Errno) {
 }
 
 // Submit takes an item (P8).
-func (m *Meter) Submit(tenant uint16, item uint32) (api.Status, uint64) { return 0, 0 }
+func (m *Meter) Submit(tenant uint16, item uint32) (api.Status, uint64) {
+	m.clock.RLock()
+	defer m.clock.RUnlock()
+	return m.queue.Submit(tenant, item, m.now)
+}
 
 // Poll tells items that are due (P9).
-func (m *Meter) Poll(most int) []api.Item { return nil }
+func (m *Meter) Poll(most int) []api.Item {
+	m.clock.RLock()
+	defer m.clock.RUnlock()
+	return m.queue.Poll(most, m.now)
+}
 
 // Do does what a command says (P10).
 func (m *Meter) Do(command string) string { return "" }
