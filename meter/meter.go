@@ -8,6 +8,7 @@ import (
 	"meter/plan"
 	"meter/queue"
 	"meter/shard"
+	"meter/wire"
 )
 
 // Meter lets requests through.
@@ -47,10 +48,7 @@ func (m *Meter) Advance(n int) api.Errno {
 	if n < 0 {
 		return api.ErrArg
 	}
-	m.clock.Lock()
-	defer m.clock.Unlock()
-	// Both are at most MaxTime, so the sum does not wrap.
-	m.now = min(m.now+uint64(n), api.MaxTime)
+	m.advance(uint64(n))
 	return api.OK
 }
 
@@ -59,9 +57,7 @@ func (m *Meter) Allow(k api.Key, cost int) (api.Reply, api.Errno) {
 	if cost < 1 || cost > api.MaxCost {
 		return api.Reply{}, api.ErrArg
 	}
-	m.clock.RLock()
-	defer m.clock.RUnlock()
-	return m.shardOf(k.Tenant).Allow(k, cost, m.now), api.OK
+	return m.allow(k, cost), api.OK
 }
 
 // Submit takes an item (P8).
@@ -79,10 +75,39 @@ func (m *Meter) Poll(most int) []api.Item {
 }
 
 // Do does what a command says (P10).
-func (m *Meter) Do(command string) string { return "" }
+func (m *Meter) Do(command string) string {
+	c := wire.Read(command)
+	switch c.Kind {
+	case wire.Allow:
+		return wire.Reply(m.allow(c.Key, c.Cost))
+	case wire.Submit:
+		return wire.Due(m.Submit(c.Tenant, c.Item))
+	case wire.Poll:
+		return wire.Items(m.Poll(c.Most))
+	case wire.Advance:
+		return wire.Time(m.advance(c.Span))
+	}
+	return wire.Refused
+}
 
 // Many does what several commands say (P12).
 func (m *Meter) Many(commands []string) ([]string, api.Errno) { return nil, api.OK }
+
+// allow decides a request whose cost may be.
+func (m *Meter) allow(k api.Key, cost int) api.Reply {
+	m.clock.RLock()
+	defer m.clock.RUnlock()
+	return m.shardOf(k.Tenant).Allow(k, cost, m.now)
+}
+
+// advance lets time go on by MaxTime at most, and tells the time behind it: nobody else's step comes in between.
+func (m *Meter) advance(n uint64) uint64 {
+	m.clock.Lock()
+	defer m.clock.Unlock()
+	// Both are at most MaxTime, so the sum does not wrap.
+	m.now = min(m.now+n, api.MaxTime)
+	return m.now
+}
 
 // shardOf tells the shard that a tenant's keys are in (P6).
 func (m *Meter) shardOf(tenant uint16) *shard.Shard {
