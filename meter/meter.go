@@ -13,7 +13,7 @@ import (
 
 // Meter lets requests through.
 type Meter struct {
-	// clock guards now. A request or an item holds it for reading until it is decided, so that shards work side by side but time stands still for each.
+	// clock guards now. A request or an item holds it for reading until it is decided, so that shards work side by side but time stands still for each. Many commands at once hold it for writing.
 	clock  sync.RWMutex
 	now    uint64
 	shards []*shard.Shard
@@ -57,7 +57,9 @@ func (m *Meter) Allow(k api.Key, cost int) (api.Reply, api.Errno) {
 	if cost < 1 || cost > api.MaxCost {
 		return api.Reply{}, api.ErrArg
 	}
-	return m.allow(k, cost), api.OK
+	m.clock.RLock()
+	defer m.clock.RUnlock()
+	return m.shards[m.shardOf(k.Tenant)].Allow(k, cost, m.now), api.OK
 }
 
 // Submit takes an item (P8).
@@ -77,39 +79,60 @@ func (m *Meter) Poll(most int) []api.Item {
 // Do does what a command says (P10).
 func (m *Meter) Do(command string) string {
 	c := wire.Read(command)
-	switch c.Kind {
-	case wire.Allow:
-		return wire.Reply(m.allow(c.Key, c.Cost))
-	case wire.Submit:
-		return wire.Due(m.Submit(c.Tenant, c.Item))
-	case wire.Poll:
-		return wire.Items(m.Poll(c.Most))
-	case wire.Advance:
+	if c.Kind == wire.Advance {
 		return wire.Time(m.advance(c.Span))
 	}
-	return wire.Refused
+	m.clock.RLock()
+	defer m.clock.RUnlock()
+	return m.answer(c, m.now)
 }
 
 // Many does what several commands say (P12).
-func (m *Meter) Many(commands []string) ([]string, api.Errno) { return nil, api.OK }
+func (m *Meter) Many(commands []string) ([]string, api.Errno) {
+	if len(commands) > api.MaxMany {
+		return nil, api.ErrArg
+	}
+	if len(commands) == 0 {
+		return nil, api.OK
+	}
+	// Held until all of them are done, so that nobody else's call comes in between.
+	m.clock.Lock()
+	defer m.clock.Unlock()
+	steps := stepsFrom(m.now, commands)
+	answers := m.doAll(steps)
+	m.now = steps[len(steps)-1].now
+	return answers, api.OK
+}
 
-// allow decides a request whose cost may be.
-func (m *Meter) allow(k api.Key, cost int) api.Reply {
-	m.clock.RLock()
-	defer m.clock.RUnlock()
-	return m.shardOf(k.Tenant).Allow(k, cost, m.now)
+// answer does a command, at the time that is given, and tells what it is answered by. Of an advance that time is the one behind it: whoever asks sets the clock.
+func (m *Meter) answer(c wire.Command, now uint64) string {
+	switch c.Kind {
+	case wire.Allow:
+		return wire.Reply(m.shards[m.shardOf(c.Key.Tenant)].Allow(c.Key, c.Cost, now))
+	case wire.Submit:
+		return wire.Due(m.queue.Submit(c.Tenant, c.Item, now))
+	case wire.Poll:
+		return wire.Items(m.queue.Poll(c.Most, now))
+	case wire.Advance:
+		return wire.Time(now)
+	}
+	return wire.Refused
 }
 
 // advance lets time go on by MaxTime at most, and tells the time behind it: nobody else's step comes in between.
 func (m *Meter) advance(n uint64) uint64 {
 	m.clock.Lock()
 	defer m.clock.Unlock()
-	// Both are at most MaxTime, so the sum does not wrap.
-	m.now = min(m.now+n, api.MaxTime)
+	m.now = later(m.now, n)
 	return m.now
 }
 
-// shardOf tells the shard that a tenant's keys are in (P6).
-func (m *Meter) shardOf(tenant uint16) *shard.Shard {
-	return m.shards[int(tenant)%len(m.shards)]
+// shardOf tells which shard a tenant's keys are in (P6).
+func (m *Meter) shardOf(tenant uint16) int {
+	return int(tenant) % len(m.shards)
+}
+
+// later tells the time n nanoseconds on (P4). Both numbers are at most MaxTime, so the sum does not wrap.
+func later(now, n uint64) uint64 {
+	return min(now+n, api.MaxTime)
 }
